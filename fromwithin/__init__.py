@@ -1,0 +1,1 @@
+"""Planning moves when nobody may enter an empty room."""
