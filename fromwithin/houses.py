@@ -17,6 +17,11 @@ def is_house(value):
     return is_ascending(doors) and not has_cycle(rooms, doors)
 
 
+def is_room(house, value):
+    """Return whether any value is a room number of the house."""
+    return is_integer(value) and 0 <= value < house[0]
+
+
 def is_door(rooms, value):
     """Return whether any value is a pair (a, b) of room numbers below rooms with a < b."""
     if not is_pair(value):

@@ -1,8 +1,8 @@
-"""The conventions of point 3: integers, pairs and "ascending"."""
+"""The conventions of point 3: integers, names, pairs and "ascending"."""
 
 import unittest
 
-from fromwithin.conventions import is_ascending, is_integer, is_pair
+from fromwithin.conventions import is_ascending, is_integer, is_name, is_pair
 
 
 class ConventionsTest(unittest.TestCase):
@@ -11,6 +11,16 @@ class ConventionsTest(unittest.TestCase):
             self.assertIs(is_integer(value), True)
         for value in (True, False, None, "", "1", (), (1,), [1], {1: 1}):
             self.assertIs(is_integer(value), False)
+
+    def test_names(self):
+        for value in ("a", "z", "ann", "abcdefgh", "zzzzzzzz", "true", "none"):
+            self.assertIs(is_name(value), True, value)
+        for value in (
+            "", "abcdefghi", "a" * 4000, "Ann", "aNn", "anN", "ANN", "ann1", "1ann", "1", "an n", " ann", "ann ", " ",
+            "an-n", "ann_", "`", "{", "a~", "ann\n", "\n", "@", "[", "\u00e9", "a\u00df", "\u0430",
+            None, True, False, 0, 3, (), ("a",), ("a", "n"), [], ["a"], {}, {"a": "n"}, b"ann",
+        ):
+            self.assertIs(is_name(value), False, value)
 
     def test_pairs(self):
         for value in ((0, 1), (None, None), ("ann", 0), ((), ())):

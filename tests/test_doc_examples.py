@@ -5,6 +5,7 @@ import pathlib
 import unittest
 
 README = pathlib.Path(__file__).parent.parent / "README.md"
+RAISES = "# raises "
 
 SECTION_2 = """
 >>> from fromwithin.houses import is_house
@@ -28,20 +29,146 @@ SECTION_2 = """
 ((0,), (2, 3))
 """
 
+SECTION_3 = """
+>>> from fromwithin.placements import is_placement
+>>> is_placement((2, ((0, 1),)), (("ann", 0), ("ben", 0)))
+True
+
+>>> from fromwithin.placements import is_target
+>>> is_target((2, ((0, 1),)), (("ann", 0),), (("ben", 1),))
+False
+
+>>> from fromwithin.placements import room_of
+>>> room_of((("ann", 0), ("ben", 1)), "ben")
+1
+>>> from fromwithin.placements import room_of
+>>> room_of((("ann", 0), ("ben", 1)), "zoe")
+# raises UnknownPerson('zoe')
+
+>>> from fromwithin.placements import people_in
+>>> people_in((("ann", 0), ("ben", 1), ("cid", 0)), 0)
+('ann', 'cid')
+
+>>> from fromwithin.placements import room_counts
+>>> room_counts((3, ((0, 1),)), (("ann", 0), ("ben", 0)))
+(2, 0, 0)
+
+>>> from fromwithin.placements import empty_rooms
+>>> empty_rooms((3, ((0, 1),)), (("ann", 0), ("ben", 0)))
+(1, 2)
+"""
+
+SECTION_4 = """
+>>> from fromwithin.regions import find_regions
+>>> find_regions((4, ((0, 1), (1, 2), (2, 3))), (("ann", 0), ("ben", 1), ("cid", 3)))
+((0, 1), (3,))
+
+>>> from fromwithin.regions import region_of
+>>> region_of((4, ((0, 1), (1, 2), (2, 3))), (("ann", 0), ("ben", 1), ("cid", 3)), 1)
+(0, 1)
+>>> from fromwithin.regions import region_of
+>>> region_of((4, ((0, 1), (1, 2), (2, 3))), (("ann", 0), ("ben", 1), ("cid", 3)), 2)
+# raises EmptyRoom(2)
+
+>>> from fromwithin.regions import surplus
+>>> surplus((("ann", 0), ("ben", 1), ("cid", 1)), (0, 1))
+1
+
+>>> from fromwithin.regions import is_tight
+>>> is_tight((("ann", 0), ("ben", 1)), (0, 1))
+True
+"""
+
+SECTION_5 = """
+>>> from fromwithin.moves import move_person
+>>> move_person((3, ((0, 1), (1, 2))), (("ann", 0), ("ben", 1)), "ann", 1)
+(('ann', 1), ('ben', 1))
+>>> from fromwithin.moves import move_person
+>>> move_person((3, ((0, 1), (1, 2))), (("ann", 0), ("ben", 1)), "ben", 2)
+# raises EmptyRoom(2)
+
+>>> from fromwithin.moves import legal_moves
+>>> legal_moves((3, ((0, 1), (1, 2))), (("ann", 0), ("ben", 1)))
+(('ann', 1), ('ben', 0))
+
+>>> from fromwithin.moves import apply_moves
+>>> apply_moves((2, ((0, 1),)), (("ann", 0), ("ben", 1)), (("ann", 1), ("ann", 0)))
+# raises InvalidMoves(1)
+
+>>> from fromwithin.moves import reaches_target
+>>> reaches_target((2, ((0, 1),)), (("ann", 0), ("ben", 1)), (("ann", 1), ("ben", 1)), (("ann", 1),))
+True
+
+>>> from fromwithin.moves import direct_moves
+>>> direct_moves((3, ((0, 1), (1, 2))), (("ann", 0), ("ben", 1), ("cid", 2)), "ann", 2)
+(('ann', 1), ('ann', 2))
+"""
+
+SECTION_6 = """
+>>> from fromwithin.tight import people_outside
+>>> people_outside((3, ((0, 1), (1, 2))), (("ann", 0), ("cid", 2)), (("ann", 1), ("cid", 2)))
+('ann',)
+
+>>> from fromwithin.tight import people_passing
+>>> people_passing((3, ((0, 1), (1, 2))), (("ann", 0), ("ben", 1), ("cid", 2)), (("ann", 2), ("ben", 1), ("cid", 2)), 1)
+('ann',)
+
+>>> from fromwithin.tight import next_toward_target
+>>> next_toward_target((3, ((0, 1), (1, 2))), (("ann", 0), ("ben", 1), ("cid", 2)), (("ann", 2), ("ben", 1), ("cid", 2)), "ann")
+1
+
+>>> from fromwithin.tight import free_rooms
+>>> free_rooms((3, ((0, 1), (1, 2))), (("ann", 0), ("ben", 1), ("cid", 2)), (("ann", 0), ("ben", 2), ("cid", 2)), (0, 1, 2))
+(1,)
+
+>>> from fromwithin.tight import is_solvable
+>>> [is_solvable((3, ((0, 1), (1, 2))), (("ann", 0), ("ben", 1), ("cid", 2)), (("ann", 0), ("ben", 2), ("cid", 2)), (0, 1, 2)), is_solvable((2, ((0, 1),)), (("ann", 0), ("ben", 1)), (("ann", 1), ("ben", 0)), (0, 1))]
+[True, False]
+"""
+
+
+def shown(error):
+    """An error as the document writes it."""
+    fields = ", ".join(repr(value) for value in vars(error).values())
+    return f"{type(error).__name__}({fields})"
+
+
+def outcome(example, names):
+    """What an example returns or raises, as the document writes it."""
+    try:
+        return repr(eval(example.source, names)) + "\n"
+    except ValueError as error:
+        return RAISES + shown(error) + "\n"
+
 
 class DocExamplesTest(unittest.TestCase):
     def check_examples(self, text, calls):
-        examples = doctest.DocTestParser().get_doctest(text, {}, self.id(), None, None)
-        self.assertEqual(len([example for example in examples.examples if example.want]), calls)
-        report = []
-        results = doctest.DocTestRunner(verbose=False).run(examples, out=report.append)
-        self.assertEqual(results.failed, 0, "".join(report))
+        examples = doctest.DocTestParser().get_examples(text)
+        self.assertEqual(len([example for example in examples if example.want]), calls)
+        names = {}
+        for example in examples:
+            if example.want:
+                self.assertEqual(outcome(example, names), example.want, example.source)
+            else:
+                exec(example.source, names)
 
     def test_section_2(self):
         self.check_examples(SECTION_2, 5)
 
+    def test_section_3(self):
+        self.check_examples(SECTION_3, 7)
+
+    def test_section_4(self):
+        self.check_examples(SECTION_4, 5)
+
+    def test_section_5(self):
+        self.check_examples(SECTION_5, 6)
+
+    def test_section_6(self):
+        self.check_examples(SECTION_6, 5)
+
     def test_readme(self):
-        self.check_examples(README.read_text(encoding="utf-8"), 6)
+        self.check_examples(README.read_text(encoding="utf-8"), 19)
 
 
 if __name__ == "__main__":

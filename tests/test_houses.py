@@ -1,65 +1,15 @@
 """Houses, paths and components, checked against independent definitions."""
 
 import copy
-import inspect
 import itertools
 import unittest
 
 from fromwithin import houses
-from fromwithin.houses import components, is_house, neighbors, path_between, rooms_beyond
+from fromwithin.houses import components, is_house, is_room, neighbors, path_between, rooms_beyond
+from support import HOUSES, LARGE_HOUSES, OTHER_VALUES, SupportCase
+from support import all_doors, connected, door_choices, forms_cycle, subsets
 
 PATH_OF_4 = (4, ((0, 1), (1, 2), (2, 3)))
-LARGE_HOUSES = (
-    (8, ()),
-    (8, ((0, 1), (1, 2), (2, 3), (3, 4), (4, 5), (5, 6), (6, 7))),
-    (8, ((0, 3), (1, 3), (2, 3), (3, 4), (3, 5), (3, 6), (3, 7))),
-    (8, ((0, 7), (1, 6), (1, 7), (2, 5), (2, 6), (3, 4), (3, 5))),
-    (8, ((0, 1), (0, 2), (1, 3), (1, 4), (2, 5), (2, 6), (6, 7))),
-    (8, ((0, 4), (1, 5), (2, 4), (3, 5), (6, 7))),
-    (7, ((0, 6), (1, 2), (2, 6), (3, 5))),
-    (6, ((0, 5), (1, 4), (2, 3))),
-    (5, ((1, 3), (1, 4), (2, 4))),
-)
-
-
-def connected(doors, a, b):
-    """Whether doors connect a and b, by merging sets of rooms until nothing changes."""
-    reached = {a}
-    while True:
-        more = {room for door in doors if reached & set(door) for room in door}
-        if more <= reached:
-            return b in reached
-        reached |= more
-
-
-def forms_cycle(doors):
-    """A door is on a cycle if its ends are still connected without it."""
-    return any(connected(set(doors) - {door}, *door) for door in doors)
-
-
-def all_doors(rooms):
-    return tuple(itertools.combinations(range(rooms), 2))
-
-
-def door_choices(rooms):
-    pairs = all_doors(rooms)
-    for size in range(len(pairs) + 1):
-        yield from itertools.combinations(pairs, size)
-
-
-def small_houses():
-    for rooms in range(1, 5):
-        for doors in door_choices(rooms):
-            if not forms_cycle(doors):
-                yield (rooms, doors)
-
-
-HOUSES = tuple(small_houses()) + LARGE_HOUSES
-
-
-def subsets(rooms):
-    for size in range(rooms + 1):
-        yield from itertools.combinations(range(rooms), size)
 
 
 class HouseTestCase(unittest.TestCase):
@@ -69,20 +19,15 @@ class HouseTestCase(unittest.TestCase):
             self.assertIs(type(room), int)
 
 
-class InterfaceTest(unittest.TestCase):
+class InterfaceTest(SupportCase):
     def test_functions_are_defined_here_with_these_parameters(self):
-        expected = {
+        self.assert_interface(houses, {
             "is_house": ("value",),
             "neighbors": ("house", "room"),
             "path_between": ("house", "a", "b"),
             "rooms_beyond": ("house", "room", "neighbor"),
             "components": ("house", "rooms"),
-        }
-        for name, parameters in expected.items():
-            with self.subTest(name):
-                function = getattr(houses, name)
-                self.assertEqual(function.__module__, "fromwithin.houses")
-                self.assertEqual(tuple(inspect.signature(function).parameters), parameters)
+        })
 
 
 class IsHouseTest(unittest.TestCase):
@@ -211,6 +156,15 @@ class IsHouseTest(unittest.TestCase):
             (("ann", 0), ("ben", 1)), (0, 1, 2), ("stuck", 0, ()), ("plan", (("ann", 1),)),
         ):
             self.assert_is_house(value, False)
+
+
+class IsRoomTest(unittest.TestCase):
+    def test_the_rooms_of_the_house_and_no_other_values(self):
+        for house in HOUSES:
+            for room in range(-3, 12):
+                self.assertIs(is_room(house, room), room in range(house[0]), (house, room))
+            for value in OTHER_VALUES:
+                self.assertIs(is_room(house, value), False, (house, value))
 
 
 class NeighborsTest(HouseTestCase):
