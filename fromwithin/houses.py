@@ -40,8 +40,9 @@ def has_cycle(rooms, doors):
 
 def neighbors(house, room):
     """Return the adjacent rooms in ascending order."""
-    rooms, doors = house
-    return tuple([other for other in range(rooms) if (room, other) in doors or (other, room) in doors])
+    doors = house[1]
+    # The doors are ascending, so both lists are, and only the first one holds lower rooms than this one.
+    return tuple([a for a, b in doors if b == room] + [b for a, b in doors if a == room])
 
 
 def path_between(house, a, b):

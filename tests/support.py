@@ -170,6 +170,75 @@ def between(house, a, b):
     return {room for room in others if not connected([door for door in house[1] if room not in door], a, b)}
 
 
+def own_next(house, here, there):
+    """The adjacent room from which the way to there does not come back; None if there is none."""
+    away = [door for door in house[1] if here not in door]
+    near = [room for room in range(house[0]) if are_adjacent(house, here, room)]
+    return next((room for room in near if here != there and connected(away, room, there)), None)
+
+
+def own_outside(house, placement, target):
+    wanted = dict(target)
+    return tuple(name for name, here in placement if wanted[name] not in own_region(house, placement, here))
+
+
+def own_tight_regions(house, placement):
+    rooms = [room for name, room in placement]
+    return tuple(
+        region for region in own_regions(house, placement) if all(rooms.count(room) == 1 for room in region))
+
+
+def search_orders(house, placement):
+    """For each reachable placement the orders in which rooms are emptied on the ways to it, by a search."""
+    waiting = [(placement, ())]
+    found = {placement: {()}}
+    while waiting:
+        here, order = waiting.pop()
+        for move in own_moves(house, here):
+            there = own_step(here, move)
+            emptied = {room for name, room in here} - {room for name, room in there}
+            longer = order + tuple(emptied)
+            if longer not in found.setdefault(there, set()):
+                found[there].add(longer)
+                waiting.append((there, longer))
+    return found
+
+
+def some_tree(source, rooms):
+    """A connected house with that many rooms, numbered in any way."""
+    numbers = source.sample(range(rooms), rooms)
+    pairs = [(numbers[room], numbers[source.randrange(room)]) for room in range(1, rooms)]
+    return (rooms, tuple(sorted((min(pair), max(pair)) for pair in pairs)))
+
+
+def some_targets(source, house, placement, how_many):
+    """Targets of several sorts: near ones, those with few wanted rooms, exchanges, and any."""
+    here = [room for name, room in placement]
+    for time in range(how_many):
+        near = [[room, *[other for other in range(house[0]) if are_adjacent(house, room, other)]] for room in here]
+        few = source.sample(range(house[0]), source.randint(1, house[0]))
+        region = own_region(house, placement, here[0]) if here else ()
+        yield place([source.choice(rooms) for rooms in near])
+        yield place([source.choice(few) for room in here])
+        yield place([source.choice([room, source.choice(region)]) if room in region else room for room in here])
+        yield place(source.sample(here, len(here)))
+
+
+def replaced(value, parts):
+    """The value with each of its parts, at every depth, in turn replaced by each of the given parts or left out."""
+    for part in parts:
+        yield part
+    if isinstance(value, tuple):
+        yield list(value)
+        yield value + value[-1:]
+        yield value[::-1]
+        for at, inner in enumerate(value):
+            yield value[:at] + value[at + 1:]
+            yield value[:at] + (inner,) + value[at:]
+            for other in replaced(inner, parts):
+                yield value[:at] + (other,) + value[at + 1:]
+
+
 class SupportCase(unittest.TestCase):
     def assert_interface(self, module, expected):
         for name, parameters in expected.items():

@@ -126,6 +126,104 @@ SECTION_6 = """
 [True, False]
 """
 
+SECTION_7 = """
+>>> from fromwithin.blocks import find_certificate
+>>> find_certificate((3, ((0, 1), (1, 2))), (("ann", 0), ("ben", 1), ("cid", 2)), (("ann", 0), ("ben", 2), ("cid", 0)), (0, 1, 2))
+((1, 'passed', 'cid'),)
+
+>>> from fromwithin.blocks import is_certificate
+>>> house = (5, ((0, 1), (1, 2), (2, 3), (3, 4)))
+>>> placement = (("ann", 0), ("ben", 1), ("cid", 2), ("dan", 3), ("eve", 4))
+>>> target = (("ann", 1), ("ben", 0), ("cid", 3), ("dan", 3), ("eve", 4))
+>>> is_certificate(house, placement, target, (0, 1, 2, 3, 4), ((2, "back", 1),))
+True
+
+>>> from fromwithin.blocks import find_block
+>>> find_block((3, ((0, 1), (1, 2))), (("ann", 0), ("ben", 1), ("cid", 2)), (("ann", 0), ("ben", 2), ("cid", 0)))
+('stuck', 0, ((1, 'passed', 'cid'),))
+
+>>> from fromwithin.blocks import is_block
+>>> is_block((3, ((0, 1), (1, 2))), (("ann", 0), ("cid", 2)), (("ann", 1), ("cid", 2)), ("outside", "cid"))
+False
+
+>>> from fromwithin.blocks import stuck_regions
+>>> stuck_regions((3, ((0, 1), (1, 2))), (("ann", 0), ("ben", 1), ("cid", 2)), (("ann", 0), ("ben", 2), ("cid", 0)))
+((0, 1, 2),)
+"""
+
+SECTION_8 = """
+>>> from fromwithin.moves import reaches_target
+>>> from fromwithin.plans import find_plan
+>>> house, placement = (3, ((0, 1), (1, 2))), (("ann", 0), ("ben", 1), ("cid", 2))
+>>> target = (("ann", 0), ("ben", 2), ("cid", 2))
+>>> reaches_target(house, placement, target, find_plan(house, placement, target))
+True
+>>> from fromwithin.plans import find_plan
+>>> find_plan((2, ((0, 1),)), (("ann", 0), ("ben", 1)), (("ann", 1), ("ben", 0)))
+# raises Blocked(('stuck', 0, ()))
+
+>>> from fromwithin.plans import solve
+>>> solve((2, ((0, 1),)), (("ann", 0), ("ben", 1)), (("ann", 1), ("ben", 0)))
+('block', ('stuck', 0, ()))
+
+>>> from fromwithin.plans import is_answer
+>>> is_answer((2, ((0, 1),)), (("ann", 0), ("ben", 1)), (("ann", 1), ("ben", 1)), ("plan", (("ann", 1),)))
+True
+
+>>> from fromwithin.moves import apply_moves
+>>> from fromwithin.plans import swap_people
+>>> house, placement = (2, ((0, 1),)), (("ann", 0), ("ben", 1), ("cid", 1))
+>>> apply_moves(house, placement, swap_people(house, placement, "ann", "ben"))
+(('ann', 1), ('ben', 0), ('cid', 1))
+>>> from fromwithin.plans import swap_people
+>>> swap_people((2, ((0, 1),)), (("ann", 0), ("ben", 1)), "ann", "ben")
+# raises TightRegion(0)
+"""
+
+SECTION_9 = """
+>>> from fromwithin.emptying import first_rooms
+>>> [first_rooms((3, ((0, 1), (1, 2))), (("ann", 0), ("ben", 1), ("cid", 2)), (("ann", 0), ("ben", 2), ("cid", 2))), first_rooms((3, ((0, 1), (1, 2))), (("ann", 0), ("ben", 1), ("cid", 2), ("dan", 2)), (("ann", 0), ("ben", 0), ("cid", 0), ("dan", 0)))]
+[(1,), (2,)]
+
+>>> from fromwithin.emptying import can_empty_in_order
+>>> house, placement = (3, ((0, 1), (1, 2))), (("ann", 0), ("ben", 1), ("cid", 2), ("dan", 2))
+>>> target = (("ann", 0), ("ben", 0), ("cid", 0), ("dan", 0))
+>>> [can_empty_in_order(house, placement, target, (2, 1)), can_empty_in_order(house, placement, target, (1, 2))]
+[True, False]
+
+>>> from fromwithin.emptying import count_orders
+>>> house = (4, ((0, 1), (0, 2), (0, 3)))
+>>> placement = (("ann", 0), ("ben", 1), ("cid", 2), ("dan", 3), ("eve", 0))
+>>> target = (("ann", 0), ("ben", 0), ("cid", 0), ("dan", 0), ("eve", 0))
+>>> count_orders(house, placement, target)
+6
+
+>>> from fromwithin.emptying import safe_moves
+>>> safe_moves((3, ((0, 1), (1, 2))), (("ann", 0), ("ben", 1), ("cid", 2)), (("ann", 0), ("ben", 2), ("cid", 2)))
+(('ben', 2),)
+
+>>> from fromwithin.emptying import helper_rooms
+>>> helper_rooms((2, ((0, 1),)), (("ann", 0), ("ben", 1)), (("ann", 1), ("ben", 0)))
+(0,)
+"""
+
+SECTION_10 = """
+>>> from fromwithin.classes import mutually_reachable
+>>> mutually_reachable((2, ((0, 1),)), (("ann", 0), ("ben", 1), ("cid", 1)), (("ann", 1), ("ben", 0), ("cid", 1)))
+True
+
+>>> from fromwithin.classes import class_size
+>>> class_size((2, ((0, 1),)), (("ann", 0), ("ben", 1), ("cid", 1)))
+6
+
+>>> from fromwithin.classes import count_reachable
+>>> count_reachable((2, ((0, 1),)), (("ann", 0), ("ben", 1), ("cid", 1)))
+8
+>>> from fromwithin.classes import count_reachable
+>>> count_reachable((2, ((0, 1),)), (("ann", 0), ("ben", 1)))
+# raises TightRegion(0)
+"""
+
 
 def shown(error):
     """An error as the document writes it."""
@@ -167,8 +265,20 @@ class DocExamplesTest(unittest.TestCase):
     def test_section_6(self):
         self.check_examples(SECTION_6, 5)
 
+    def test_section_7(self):
+        self.check_examples(SECTION_7, 5)
+
+    def test_section_8(self):
+        self.check_examples(SECTION_8, 6)
+
+    def test_section_9(self):
+        self.check_examples(SECTION_9, 5)
+
+    def test_section_10(self):
+        self.check_examples(SECTION_10, 4)
+
     def test_readme(self):
-        self.check_examples(README.read_text(encoding="utf-8"), 19)
+        self.check_examples(README.read_text(encoding="utf-8"), 31)
 
 
 if __name__ == "__main__":
