@@ -2,7 +2,7 @@
 
 from fromwithin.houses import neighbors, path_between
 from fromwithin.moves import apply_moves, direct_moves
-from fromwithin.placements import people_in, people_within, room_of
+from fromwithin.placements import people_in, people_within, room_of, with_person_in
 from fromwithin.regions import find_regions, is_tight
 
 
@@ -74,7 +74,7 @@ def spread(house, target, region):
     while len({room for name, room in reached}) < len(region):
         name, room = find_growth(house, reached, region)
         moves = walk(house, name, room, room_of(reached, name)) + moves
-        reached = tuple([(person, room if person == name else other) for person, other in reached])
+        reached = with_person_in(reached, name, room)
     return (reached, moves)
 
 

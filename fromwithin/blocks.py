@@ -1,6 +1,7 @@
 """Blocks: certificates that a tight region is stuck, and people who are outside (points 17 and 18)."""
 
 from fromwithin.conventions import is_integer, is_pair
+from fromwithin.errors import Blocked
 from fromwithin.houses import components, neighbors
 from fromwithin.placements import people_within, room_of
 from fromwithin.regions import find_regions, is_tight
@@ -99,6 +100,13 @@ def find_block(house, placement, target):
         if certificate is not None:
             return ("stuck", region[0], certificate)
     return None
+
+
+def refuse_block(house, placement, target):
+    """Raise Blocked if there is a block."""
+    block = find_block(house, placement, target)
+    if block is not None:
+        raise Blocked(block)
 
 
 def tight_regions(house, placement, target):

@@ -5,7 +5,7 @@ each person is alone in their room until the first room is emptied. Otherwise th
 any way that leaves no room empty.
 """
 
-from fromwithin.blocks import find_block, stuck_regions
+from fromwithin.blocks import find_block, refuse_block, stuck_regions
 from fromwithin.errors import Blocked
 from fromwithin.houses import is_room
 from fromwithin.moves import legal_moves, move_person
@@ -24,13 +24,6 @@ def first_rooms(house, placement, target):
     for part in region_parts(house, placement):
         found.extend(first_of_part(house, placement, target, part))
     return tuple(sorted(found))
-
-
-def refuse_block(house, placement, target):
-    """Raise Blocked if there is a block."""
-    block = find_block(house, placement, target)
-    if block is not None:
-        raise Blocked(block)
 
 
 def region_parts(house, placement):

@@ -3,7 +3,7 @@
 from fromwithin.conventions import is_pair
 from fromwithin.errors import EmptyRoom, HouseError, InvalidMoves, InvalidRoom, NotAdjacent, OtherRegion
 from fromwithin.houses import is_room, neighbors, path_between
-from fromwithin.placements import people_in, room_of
+from fromwithin.placements import people_in, room_of, with_person_in
 from fromwithin.regions import region_of
 
 
@@ -19,7 +19,7 @@ def move_person(house, placement, name, room):
         raise NotAdjacent(room)
     if not people_in(placement, room):
         raise EmptyRoom(room)
-    return tuple([(person, room if person == name else other) for person, other in placement])
+    return with_person_in(placement, name, room)
 
 
 def legal_moves(house, placement):

@@ -43,6 +43,11 @@ def room_of(placement, name):
     raise UnknownPerson(name)
 
 
+def with_person_in(placement, name, room):
+    """Return the placement with this person in another room."""
+    return tuple([(person, room if person == name else other) for person, other in placement])
+
+
 def people_in(placement, room):
     """Return the names in a room in ascending order."""
     return people_within(placement, (room,))

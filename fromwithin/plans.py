@@ -1,7 +1,7 @@
 """Plans: moves to the target or the block that stands in the way, and exchanges of two people (points 19 to 21)."""
 
 from fromwithin.arranging import exchange, loose_moves
-from fromwithin.blocks import find_block, is_block
+from fromwithin.blocks import is_block, refuse_block
 from fromwithin.conventions import is_pair
 from fromwithin.errors import Blocked, OtherRegion, TightRegion
 from fromwithin.moves import move_person, reaches_target
@@ -12,9 +12,7 @@ from fromwithin.tight import all_at_target, components_without, room_ahead, room
 
 def find_plan(house, placement, target):
     """Return some plan; raise Blocked if there is a block."""
-    block = find_block(house, placement, target)
-    if block is not None:
-        raise Blocked(block)
+    refuse_block(house, placement, target)
     moves = ()
     for region in find_regions(house, placement):
         if is_tight(placement, region):

@@ -224,11 +224,180 @@ True
 # raises TightRegion(0)
 """
 
+SECTION_11 = """
+>>> from fromwithin.anonymous import find_count_block
+>>> [find_count_block((3, ((0, 1), (1, 2))), (1, 0, 2), (1, 1, 1)), find_count_block((3, ((0, 1), (1, 2))), (1, 1, 2), (2, 1, 0))]
+[('empty', 1), ('unbalanced', 0)]
+
+>>> from fromwithin.anonymous import is_count_block
+>>> [is_count_block((3, ((0, 1), (1, 2))), (1, 0, 2), (1, 1, 1), ("unbalanced", 2)), is_count_block((3, ((0, 1), (1, 2))), (1, 0, 2), (1, 1, 1), ("unbalanced", 0))]
+[True, False]
+
+>>> from fromwithin.anonymous import net_flows
+>>> net_flows((3, ((0, 1), (1, 2))), (1, 1, 2), (4, 0, 0))
+((0, 1, -3), (1, 2, -2))
+
+>>> from fromwithin.anonymous import fewest_moves
+>>> fewest_moves((3, ((0, 1), (1, 2))), (1, 1, 2), (4, 0, 0))
+5
+
+>>> from fromwithin.anonymous import flow_plan
+>>> flow_plan((3, ((0, 1), (1, 2))), (1, 1, 2), (4, 0, 0))
+((2, 2, 1), (3, 1, 0))
+
+>>> from fromwithin.anonymous import flows_reach_target
+>>> flows_reach_target((2, ((0, 1),)), (1, 1), (0, 2), ((1, 0, 1),))
+True
+"""
+
+SECTION_12 = """
+>>> from fromwithin.sessions import Session
+>>> Session(5, ())
+# raises InvalidHouse
+
+>>> from fromwithin.sessions import Session
+>>> session = Session((2, ((0, 1),)), (("ann", 0), ("ben", 1)))
+>>> session.move("ann", 1)
+>>> session.placement()
+(('ann', 1), ('ben', 1))
+
+>>> from fromwithin.sessions import Session
+>>> session = Session((2, ((0, 1),)), (("ann", 0), ("ben", 1)))
+>>> session.enter("cid", 1)
+>>> session.targets()
+(('ann', 0), ('ben', 1), ('cid', 1))
+
+>>> from fromwithin.sessions import Session
+>>> session = Session((2, ((0, 1),)), (("ann", 0), ("ben", 1)))
+>>> session.leave("ann")
+>>> session.placement()
+(('ben', 1),)
+
+>>> from fromwithin.sessions import Session
+>>> session = Session((2, ((0, 1),)), (("ann", 0), ("ben", 1)))
+>>> session.set_target("ann", 1)
+>>> session.targets()
+(('ann', 1), ('ben', 1))
+
+>>> from fromwithin.sessions import Session
+>>> session = Session((3, ((0, 1),)), ())
+>>> session.add_door(2, 1)
+>>> session.house()
+(3, ((0, 1), (1, 2)))
+>>> from fromwithin.sessions import Session
+>>> session = Session((3, ((0, 1), (1, 2))), ())
+>>> session.add_door(0, 2)
+# raises WouldFormCycle(2)
+
+>>> from fromwithin.sessions import Session
+>>> session = Session((3, ((0, 1), (1, 2))), ())
+>>> session.remove_door(1, 0)
+>>> session.house()
+(3, ((1, 2),))
+
+>>> from fromwithin.sessions import Session
+>>> session = Session((1, ()), (("ann", 0),))
+>>> session.add_room("ann")
+>>> [session.house(), session.placement(), session.targets()]
+[(2, ((0, 1),)), (('ann', 1),), (('ann', 0),)]
+
+>>> from fromwithin.sessions import Session
+>>> session = Session((2, ((0, 1),)), (("ann", 0), ("ben", 1)))
+>>> session.move("ann", 1)
+>>> session.undo()
+>>> [session.placement(), len(session)]
+[(('ann', 0), ('ben', 1)), 0]
+
+>>> from fromwithin.sessions import GuardedSession
+>>> session = GuardedSession((2, ((0, 1),)), (("ann", 0), ("ben", 1)))
+>>> session.set_target("ann", 1)
+>>> session.set_target("ben", 0)
+# raises Blocked(('stuck', 0, ()))
+
+>>> from fromwithin.sessions import Session
+>>> session = Session((2, ((0, 1),)), (("ann", 0), ("ben", 1)))
+>>> session.run_batch((("move", "ann", 1), ("leave", "zoe")))
+# raises BatchFailed(1)
+
+>>> from fromwithin.sessions import Session
+>>> session = Session((2, ((0, 1),)), (("ann", 0), ("ben", 1)))
+>>> session.run_batch((("move", "ann", 1),))
+>>> session.log()
+(('begin', 1), ('end', 1))
+
+>>> from fromwithin.sessions import Session
+>>> session = Session((2, ((0, 1),)), (("ann", 0), ("ben", 1)))
+>>> session.move("ann", 1)
+>>> [session.placement(), session.placement(moment=0), session.actions()]
+[(('ann', 1), ('ben', 1)), (('ann', 0), ('ben', 1)), (('move', 'ann', 1),)]
+
+>>> from fromwithin.sessions import Session
+>>> session = Session((2, ((0, 1),)), (("ann", 0), ("ben", 1)))
+>>> session.set_target("ann", 1)
+>>> session.set_target("ben", 0)
+>>> [session.blocked_by(moment=1), session.blocked_by()]
+[None, ('stuck', 0, ())]
+
+>>> from fromwithin.sessions import Session
+>>> session = Session((2, ((0, 1),)), (("ann", 0), ("ben", 1)))
+>>> other = session.copy()
+>>> session.move("ann", 1)
+>>> [other == session, str(session), len(other)]
+[False, '2 rooms, 1 doors, 2 people, 1 actions', 0]
+"""
+
+SECTION_13 = r"""
+>>> from fromwithin.texts import format_house
+>>> format_house((3, ((0, 1), (1, 2))))
+'rooms 3\ndoor 0 1\ndoor 1 2\n'
+
+>>> from fromwithin.texts import format_placement
+>>> format_placement((("ann", 0),), (("ann", 2),))
+'ann 0 2\n'
+
+>>> from fromwithin.texts import parse_house
+>>> parse_house("rooms 3\ndoor 0 1\n")
+(3, ((0, 1),))
+>>> from fromwithin.texts import parse_house
+>>> parse_house("rooms 3\ndoor 0 3\n")
+# raises InvalidText(1)
+>>> from fromwithin.texts import parse_house
+>>> parse_house("rooms 3\ndoor 0")
+# raises InvalidText(1)
+>>> from fromwithin.texts import parse_house
+>>> parse_house("rooms 3\ndoor 0 1")
+# raises InvalidText(2)
+
+>>> from fromwithin.texts import parse_placement
+>>> parse_placement((2, ((0, 1),)), "ann 0 1\nben 1 1\n")
+((('ann', 0), ('ben', 1)), (('ann', 1), ('ben', 1)))
+"""
+
+SECTION_14 = """
+>>> from fromwithin.consoles import Console
+>>> from fromwithin.sessions import Session
+>>> console = Console(Session((2, ((0, 1),)), (("ann", 0), ("ben", 1))))
+>>> [console.execute("target ann 1"), console.execute("move ann 1"), console.execute("where")]
+['ok', 'ok', 'ann 1, ben 1']
+>>> from fromwithin.consoles import Console
+>>> from fromwithin.sessions import Session
+>>> console = Console(Session((2, ((0, 1),)), (("ann", 0), ("ben", 1))))
+>>> [console.execute("jump ann"), console.execute("move zoe 1"), console.execute("first")]
+['error InvalidLine', 'error UnknownPerson', '-']
+
+>>> from fromwithin.consoles import Console
+>>> from fromwithin.sessions import Session
+>>> console = Console(Session((2, ((0, 1),)), (("ann", 0), ("ben", 1))))
+>>> answer = console.execute("regions")
+>>> console.transcript()
+(('regions', '0 1'),)
+"""
+
 
 def shown(error):
     """An error as the document writes it."""
     fields = ", ".join(repr(value) for value in vars(error).values())
-    return f"{type(error).__name__}({fields})"
+    return type(error).__name__ + (f"({fields})" if fields else "")
 
 
 def outcome(example, names):
@@ -277,8 +446,20 @@ class DocExamplesTest(unittest.TestCase):
     def test_section_10(self):
         self.check_examples(SECTION_10, 4)
 
+    def test_section_11(self):
+        self.check_examples(SECTION_11, 6)
+
+    def test_section_12(self):
+        self.check_examples(SECTION_12, 16)
+
+    def test_section_13(self):
+        self.check_examples(SECTION_13, 7)
+
+    def test_section_14(self):
+        self.check_examples(SECTION_14, 3)
+
     def test_readme(self):
-        self.check_examples(README.read_text(encoding="utf-8"), 31)
+        self.check_examples(README.read_text(encoding="utf-8"), 44)
 
 
 if __name__ == "__main__":
